@@ -1,0 +1,85 @@
+// Package copse: truth functions as graphs that share, in any order of their variables: see DOC.md.
+package copse
+
+import (
+	"maps"
+	"slices"
+	"strings"
+
+	"copse/api"
+	"copse/graph"
+)
+
+// Copse keeps functions.
+type Copse struct {
+	cap   int
+	names []string // of the variables, by their numbers
+	graph *graph.Graph
+	live  map[graph.Ref]struct{} // the live handles; the graph has their nodes and no others between calls
+}
+
+// New makes a copse (P3).
+func New(cap int) (*Copse, api.Errno) {
+	if cap < 1 || cap > api.MaxCap {
+		return nil, api.ErrArg
+	}
+	return &Copse{
+		cap:   cap,
+		graph: graph.New(),
+		live:  map[graph.Ref]struct{}{graph.True: {}, graph.False: {}},
+	}, api.OK
+}
+
+// Var makes a variable (P4).
+func (c *Copse) Var(name string) (int, api.Errno) {
+	switch {
+	case !isName(name) || slices.Contains(c.names, name):
+		return 0, api.ErrName
+	case len(c.names) == api.MaxVars:
+		return 0, api.ErrMany
+	case c.graph.Size() == c.cap: // asked ahead, as a variable could not be taken back; its function is always one new node
+		return 0, api.ErrFull
+	}
+	c.names = append(c.names, strings.Clone(name))
+	return c.tell(c.graph.AddVariable())
+}
+
+// Const is a constant (P3).
+func (c *Copse) Const(v bool) int {
+	if v {
+		return int(graph.True)
+	}
+	return int(graph.False)
+}
+
+// isLive holds for no number below 0, as the graph has none.
+func (c *Copse) isLive(f int) bool {
+	_, found := c.live[graph.Ref(f)]
+	return found
+}
+
+// tell makes an answer live, if there is room for its nodes, which are the only ones that were made since the last call.
+func (c *Copse) tell(answer graph.Ref) (int, api.Errno) {
+	if c.graph.Size() > c.cap {
+		c.graph.Sweep(maps.Keys(c.live))
+		return 0, api.ErrFull
+	}
+	c.live[answer] = struct{}{}
+	return int(answer), api.OK
+}
+
+func isName(text string) bool {
+	if len(text) < 1 || len(text) > api.MaxName || !isLetter(text[0]) {
+		return false
+	}
+	for _, b := range []byte(text) {
+		if !isLetter(b) && !isDigit(b) {
+			return false
+		}
+	}
+	return true
+}
+
+func isLetter(b byte) bool { return 'a' <= b && b <= 'z' }
+
+func isDigit(b byte) bool { return '0' <= b && b <= '9' }
