@@ -26,7 +26,7 @@ func New(cap int) (*Copse, api.Errno) {
 	return &Copse{
 		cap:   cap,
 		graph: graph.New(),
-		live:  map[graph.Ref]struct{}{graph.True: {}, graph.False: {}},
+		live:  liveConstants(),
 	}, api.OK
 }
 
@@ -52,10 +52,18 @@ func (c *Copse) Const(v bool) int {
 	return int(graph.False)
 }
 
+func liveConstants() map[graph.Ref]struct{} {
+	return map[graph.Ref]struct{}{graph.True: {}, graph.False: {}}
+}
+
 // isLive holds for no number below 0, as the graph has none.
 func (c *Copse) isLive(f int) bool {
 	_, found := c.live[graph.Ref(f)]
 	return found
+}
+
+func (c *Copse) areLive(fs []int) bool {
+	return !slices.ContainsFunc(fs, func(f int) bool { return !c.isLive(f) })
 }
 
 // tell makes an answer live, if there is room for its nodes, which are the only ones that were made since the last call.

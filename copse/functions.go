@@ -61,10 +61,8 @@ func (c *Copse) Support(f int) ([]string, api.Errno) {
 
 // Nodes counts nodes (P6).
 func (c *Copse) Nodes(fs []int) (int, api.Errno) {
-	for _, f := range fs {
-		if !c.isLive(f) {
-			return 0, api.ErrHandle
-		}
+	if !c.areLive(fs) {
+		return 0, api.ErrHandle
 	}
 	return c.graph.Count(refs(fs)), api.OK
 }

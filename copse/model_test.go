@@ -17,12 +17,14 @@ func (s *steps) below(n int) int {
 	return int(uint64(*s) >> 33 % uint64(n))
 }
 
-// A call is one that makes handles.
+// A call is one that changes a copse.
 type call struct {
 	kind    string
 	f, g, h int
 	name    string
 	v       bool
+	to      int
+	keep    []int
 	answer  int
 }
 
@@ -34,6 +36,13 @@ func (k call) on(c *copse.Copse) (int, api.Errno) {
 		return c.Not(k.f)
 	case "Restrict":
 		return c.Restrict(k.f, k.name, k.v)
+	case "Move":
+		return 0, c.Move(k.name, k.to)
+	case "Sift":
+		c.Sift()
+		return 0, api.OK
+	case "Collect":
+		return 0, c.Collect(k.keep)
 	}
 	return c.Ite(k.f, k.g, k.h)
 }
@@ -42,21 +51,27 @@ func (k call) on(c *copse.Copse) (int, api.Errno) {
 type model struct {
 	c       *copse.Copse
 	cap     int
-	vars    int
+	order   []int
 	handles []int // in the order in which they came
 	tables  map[int]table
 	known   map[table]int
 	nodes   map[table]bool // those of all live handles
 	taken   []call         // the calls that were not refused, with what they answered
-	refused int
+	refused map[string]int // how often, by the kinds of calls
 }
 
 func newModel(t *testing.T, cap int) *model {
 	c, _ := start(t, cap, 0)
-	m := &model{c: c, cap: cap, tables: map[int]table{}, known: map[table]int{}, nodes: map[table]bool{}}
-	m.learn(t, c.Const(false), never)
-	m.learn(t, c.Const(true), always)
+	m := &model{c: c, cap: cap, refused: map[string]int{}}
+	m.forget(t)
 	return m
+}
+
+// forget leaves the constants alone live.
+func (m *model) forget(t *testing.T) {
+	m.handles, m.tables, m.known, m.nodes = nil, map[int]table{}, map[table]int{}, map[table]bool{}
+	m.learn(t, m.c.Const(false), never)
+	m.learn(t, m.c.Const(true), always)
 }
 
 func (m *model) learn(t *testing.T, handle int, f table) {
@@ -74,69 +89,140 @@ func (m *model) learn(t *testing.T, handle int, f table) {
 		m.handles = append(m.handles, handle)
 	}
 	m.tables[handle], m.known[f] = f, handle
-	addNodes(m.nodes, f)
+	addNodes(m.nodes, m.order, f)
 }
 
-// do makes a call and holds its answer against the function that it should be.
-func (m *model) do(t *testing.T, k call, want table) api.Errno {
+// attempt makes a call that must be refused just if the copse would have more than cap nodes then.
+func (m *model) attempt(t *testing.T, k call, nodes int) (int, api.Errno) {
+	t.Helper()
+	want := api.OK
+	if nodes > m.cap {
+		want = api.ErrFull
+	}
+	answer, e := k.on(m.c)
+	if e != want || e != api.OK && answer != 0 {
+		t.Fatalf("%v: %d nodes, cap %d: %d, %d", k, nodes, m.cap, answer, e)
+	}
+	if e == api.OK {
+		k.answer = answer
+		m.taken = append(m.taken, k)
+	} else {
+		m.refused[k.kind]++
+	}
+	return answer, e
+}
+
+// do makes a call that tells a handle, which should stand for a function in an order.
+func (m *model) do(t *testing.T, k call, order []int, want table) {
 	t.Helper()
 	together := maps.Clone(m.nodes)
-	addNodes(together, want)
-	handle, e := k.on(m.c)
-	if len(together) > m.cap {
-		if handle != 0 || e != api.ErrFull {
-			t.Fatalf("%v: %d nodes, cap %d: %d, %d, want ErrFull", k, len(together), m.cap, handle, e)
-		}
-		m.refused++
-		return e
-	}
-	if e != api.OK {
-		t.Fatalf("%v: %d nodes, cap %d: refused: %d", k, len(together), m.cap, e)
-	}
-	m.learn(t, handle, want)
-	k.answer = handle
-	m.taken = append(m.taken, k)
-	return e
-}
-
-func (m *model) any(s *steps) int { return m.handles[s.below(len(m.handles))] }
-
-// step makes a call that no other error than ErrFull can refuse.
-func (m *model) step(t *testing.T, s *steps) {
-	t.Helper()
-	k := call{kind: "Ite", f: m.any(s), g: m.any(s), h: m.any(s), v: s.below(2) == 1}
-	f := m.tables[k.f]
-	switch kind := s.below(8); {
-	case kind == 0 && m.vars < api.MaxVars:
-		m.addVar(t)
-	case kind == 1:
-		k.kind = "Not"
-		m.do(t, k, ^f)
-	case kind == 2 && m.vars > 0:
-		variable := s.below(m.vars)
-		k.kind, k.name = "Restrict", names[variable]
-		m.do(t, k, restrictTable(f, variable, k.v))
-	default:
-		m.do(t, k, iteTable(f, m.tables[k.g], m.tables[k.h]))
+	addNodes(together, order, want)
+	if handle, e := m.attempt(t, k, len(together)); e == api.OK {
+		m.order = order
+		m.learn(t, handle, want)
 	}
 }
 
 func (m *model) addVar(t *testing.T) {
 	t.Helper()
-	if e := m.do(t, call{kind: "Var", name: names[m.vars]}, variableTable(m.vars)); e == api.OK {
-		m.vars++
+	variable := len(m.order)
+	m.do(t, call{kind: "Var", name: names[variable]}, append(slices.Clone(m.order), variable), variableTable(variable))
+}
+
+// live tells the functions of all live handles.
+func (m *model) live() []table { return slices.Collect(maps.Values(m.tables)) }
+
+// reorder makes a call that should bring about an order.
+func (m *model) reorder(t *testing.T, k call, order []int) {
+	t.Helper()
+	nodes := map[table]bool{}
+	addNodes(nodes, order, m.live()...)
+	if _, e := m.attempt(t, k, len(nodes)); e == api.OK {
+		m.order, m.nodes = order, nodes
 	}
 }
 
-// look holds what P6 tells of one handle, and of a few together, against the model.
+func (m *model) collect(t *testing.T, keep []int) {
+	t.Helper()
+	m.attempt(t, call{kind: "Collect", keep: keep}, 0)
+	tables := m.tables
+	m.forget(t)
+	for _, h := range keep {
+		m.learn(t, h, tables[h])
+	}
+}
+
+func (m *model) any(s *steps) int { return m.handles[s.below(len(m.handles))] }
+
+// step makes a call that tells a handle, and that no other error than ErrFull can refuse.
+func (m *model) step(t *testing.T, s *steps) {
+	t.Helper()
+	k := call{kind: "Ite", f: m.any(s), g: m.any(s), h: m.any(s), v: s.below(2) == 1}
+	f := m.tables[k.f]
+	switch kind := s.below(8); {
+	case kind == 0 && len(m.order) < api.MaxVars:
+		m.addVar(t)
+	case kind == 1:
+		k.kind = "Not"
+		m.do(t, k, m.order, ^f)
+	case kind == 2 && len(m.order) > 0:
+		variable := s.below(len(m.order))
+		k.kind, k.name = "Restrict", names[variable]
+		m.do(t, k, m.order, restrictTable(f, variable, k.v))
+	default:
+		m.do(t, k, m.order, iteTable(f, m.tables[k.g], m.tables[k.h]))
+	}
+}
+
+// orderStep makes a call of Move or, now and then, of Sift.
+func (m *model) orderStep(t *testing.T, s *steps) {
+	t.Helper()
+	if len(m.order) == 0 || s.below(8) == 0 {
+		m.reorder(t, call{kind: "Sift"}, siftOrder(m.order, m.live()...))
+		return
+	}
+	variable, to := s.below(len(m.order)), s.below(len(m.order))
+	m.reorder(t, call{kind: "Move", name: names[variable], to: to}, moveTo(m.order, variable, to))
+}
+
+// collectStep keeps some of the live handles, few or many, some of them perhaps twice.
+func (m *model) collectStep(t *testing.T, s *steps) {
+	t.Helper()
+	var keep []int
+	for range s.below(len(m.handles) + 1) {
+		keep = append(keep, m.any(s))
+	}
+	for _, variable := range m.order {
+		// Seldom let go, as little can be made without them.
+		if h, found := m.known[variableTable(variable)]; found && s.below(32) > 0 {
+			keep = append(keep, h)
+		}
+	}
+	m.collect(t, keep)
+}
+
+// mixedStep makes a call of any kind.
+func (m *model) mixedStep(t *testing.T, s *steps) {
+	t.Helper()
+	switch s.below(32) {
+	case 0, 1, 2, 3:
+		m.orderStep(t, s)
+	case 4:
+		m.collectStep(t, s)
+	default:
+		m.step(t, s)
+	}
+}
+
+// look holds what P6 and P7 tell of one handle, of a few together, and of all, against the model.
 func (m *model) look(t *testing.T, s *steps) {
 	t.Helper()
 	f := m.any(s)
-	if got := read(t, m.c, f, m.vars); got != m.tables[f] {
+	if got := read(t, m.c, f, len(m.order)); got != m.tables[f] {
 		t.Fatalf("Eval of %d: %x, want %x", f, got, m.tables[f])
 	}
 	var want []string
-	for variable := range m.vars {
+	for _, variable := range m.order {
 		if hangsOn(m.tables[f], variable) {
 			want = append(want, names[variable])
 		}
@@ -150,33 +236,53 @@ func (m *model) look(t *testing.T, s *steps) {
 		h := m.any(s)
 		fs, tables = append(fs, h), append(tables, m.tables[h])
 	}
-	if got, e := m.c.Nodes(fs); got != countNodes(tables...) || e != api.OK {
-		t.Fatalf("Nodes of %x: %d, %d, want %d", tables, got, e, countNodes(tables...))
+	if got, e := m.c.Nodes(fs); got != countNodes(m.order, tables...) || e != api.OK {
+		t.Fatalf("Nodes of %x: %d, %d, want %d", tables, got, e, countNodes(m.order, tables...))
+	}
+	m.lookAtAll(t)
+}
+
+func (m *model) lookAtAll(t *testing.T) {
+	t.Helper()
+	if got := m.c.Order(); !slices.Equal(got, namesOf(m.order)) {
+		t.Fatalf("Order: %v, want %v", got, namesOf(m.order))
+	}
+	if got := m.c.Live(); got != len(m.nodes) {
+		t.Fatalf("Live: %d, want %d", got, len(m.nodes))
+	}
+	if got, e := m.c.Nodes(m.handles); got != len(m.nodes) || e != api.OK {
+		t.Fatalf("Nodes of all: %d, %d, want %d", got, e, len(m.nodes))
 	}
 }
 
-// TestModel: P3 to P6: many calls, in copses of all kinds of caps, held against functions written out.
+// readAll holds each live handle against its function.
+func (m *model) readAll(t *testing.T) {
+	t.Helper()
+	for _, h := range m.handles {
+		if got := read(t, m.c, h, len(m.order)); got != m.tables[h] {
+			t.Fatalf("the handle %d is %x, want %x", h, got, m.tables[h])
+		}
+	}
+}
+
+// TestModel: P3 to P8: many calls, in copses of all kinds of caps, held against functions written out.
 func TestModel(t *testing.T) {
 	for _, cap := range []int{1, 2, 3, 4, 5, 6, 7, 8, 10, 13, 20, 35, 60, 100, 150, 299, 300} {
 		for seed := range 6 {
 			s := steps(1000*cap + seed)
 			m := newModel(t, cap)
-			for i := range 500 {
-				m.step(t, &s)
-				if i%10 == 0 {
-					m.look(t, &s)
-				}
+			for range 500 {
+				m.mixedStep(t, &s)
+				m.look(t, &s)
 			}
-			if n, e := m.c.Nodes(m.handles); n != len(m.nodes) || e != api.OK {
-				t.Fatalf("Nodes of all: %d, %d, want %d", n, e, len(m.nodes))
-			}
+			m.readAll(t)
 		}
 	}
 }
 
-// TestFullToTheBrim: P5: a copse takes just as many nodes as its cap, up to MaxCap.
+// TestFullToTheBrim: P5, P8: a copse takes just as many nodes as its cap, up to MaxCap, in every order.
 func TestFullToTheBrim(t *testing.T) {
-	for _, cap := range []int{6, 50, 299, api.MaxCap} {
+	for _, cap := range []int{6, 12, 50, 299, api.MaxCap} {
 		s := steps(cap)
 		m := newModel(t, cap)
 		for range api.MaxVars {
@@ -191,10 +297,15 @@ func TestFullToTheBrim(t *testing.T) {
 		for range 300 {
 			m.step(t, &s)
 		}
-		for _, h := range m.handles {
-			if got := read(t, m.c, h, m.vars); got != m.tables[h] {
-				t.Fatalf("a full copse: the handle %d is %x, want %x", h, got, m.tables[h])
-			}
+		m.readAll(t)
+		for range 50 {
+			m.orderStep(t, &s)
+			m.lookAtAll(t)
+			m.step(t, &s)
+		}
+		m.readAll(t)
+		if m.refused["Ite"] == 0 || cap > 6 && m.refused["Move"] == 0 {
+			t.Errorf("cap %d: too little was refused: %v", cap, m.refused)
 		}
 	}
 }

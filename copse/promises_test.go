@@ -72,6 +72,9 @@ func TestP1FirstError(t *testing.T) {
 	if x, e := full.Eval(-1, -1); x || e != api.ErrHandle {
 		t.Errorf("Eval: no handle, no assignment: %v, %d", x, e)
 	}
+	if e := full.Move("g", -1); e != api.ErrName {
+		t.Errorf("Move: no name, no place: %d", e)
+	}
 }
 
 // refusals calls what must be refused by a copse with two variables and three nodes, whose cap is 3.
@@ -93,6 +96,9 @@ func refusals(t *testing.T, c *copse.Copse, v []int, f int) {
 	refused(c.Restrict(f, "c", true))
 	refused(c.Restrict(-1, "a", true))
 	refused(c.Nodes([]int{f, -1}))
+	refused(0, c.Move("c", 0))
+	refused(0, c.Move("a", 2))
+	refused(0, c.Collect([]int{f, -1}))
 	if x, e := c.Eval(f, 4); x || e != api.ErrArg {
 		t.Fatalf("an assignment that is none: %v, %d", x, e)
 	}
@@ -116,6 +122,9 @@ func TestP1NothingChanged(t *testing.T) {
 	if and(t, c, v[1], v[0]) != f {
 		t.Errorf("a handle after refusals")
 	}
+	if l := c.Order(); !slices.Equal(l, []string{"a", "b"}) || c.Live() != 3 {
+		t.Errorf("after refusals: %v, %d live nodes", l, c.Live())
+	}
 }
 
 // TestP1NoTrace: a refused call leaves no trace in what comes later: a copse without the refused calls gives the same answers.
@@ -124,10 +133,10 @@ func TestP1NoTrace(t *testing.T) {
 		s := steps(cap)
 		m := newModel(t, cap)
 		for range 600 {
-			m.step(t, &s)
+			m.mixedStep(t, &s)
 		}
-		if m.refused == 0 {
-			t.Fatalf("cap %d: nothing was refused", cap)
+		if m.refused["Ite"] == 0 || cap >= 10 && m.refused["Move"] == 0 {
+			t.Fatalf("cap %d: too little was refused: %v", cap, m.refused)
 		}
 		again, _ := start(t, cap, 0)
 		for i, k := range m.taken {
@@ -145,13 +154,13 @@ func TestP2Alike(t *testing.T) {
 		second, r := newModel(t, cap), steps(cap)
 		noise, q := newModel(t, cap), steps(cap+1)
 		for range 400 {
-			first.step(t, &s)
-			noise.step(t, &q)
+			first.mixedStep(t, &s)
+			noise.mixedStep(t, &q)
 		}
 		for range 400 {
-			second.step(t, &r)
+			second.mixedStep(t, &r)
 		}
-		if !slices.Equal(first.handles, second.handles) {
+		if !slices.Equal(first.handles, second.handles) || !slices.Equal(first.c.Order(), second.c.Order()) {
 			t.Fatalf("cap %d: the same calls, other answers", cap)
 		}
 	}
@@ -173,8 +182,14 @@ func TestP2Apart(t *testing.T) {
 			t.Errorf("nodes or names came over: Var(%q): %d", name, e)
 		}
 	}
+	move(t, d, "a", 2)
+	d.Sift()
+	collect(t, d)
 	if l, e := c.Support(f); !slices.Equal(l, []string{"a", "b"}) || e != api.OK {
 		t.Errorf("a function of one copse, after calls on another: %v, %d", l, e)
+	}
+	if l := c.Order(); !slices.Equal(l, []string{"a", "b"}) || c.Live() != 3 {
+		t.Errorf("a copse, after calls on another: %v, %d live nodes", l, c.Live())
 	}
 }
 
@@ -190,6 +205,12 @@ func TestP2ListIn(t *testing.T) {
 	if n, e := c.Nodes(room[:5]); n != 0 || e != api.ErrHandle {
 		t.Errorf("Nodes with a number below 0: %d, %d", n, e)
 	}
+	if e := c.Collect(room[:5]); e != api.ErrHandle {
+		t.Errorf("Collect with a number below 0: %d", e)
+	}
+	if e := c.Collect(room[:4]); e != api.OK {
+		t.Errorf("Collect: %d", e)
+	}
 	if !slices.Equal(room, whole) {
 		t.Errorf("a list was written into: %v, was %v", room, whole)
 	}
@@ -198,6 +219,9 @@ func TestP2ListIn(t *testing.T) {
 	}
 	if n, e := c.Nodes([]int{f}); n != 2 || e != api.OK {
 		t.Errorf("a list was kept: %d, %d", n, e)
+	}
+	if n, e := c.Nodes([]int{f, v[0]}); n != 3 || e != api.OK || c.Live() != 3 {
+		t.Errorf("a list of what is live was kept: %d, %d, %d live nodes", n, e, c.Live())
 	}
 }
 
@@ -221,6 +245,16 @@ func TestP2ListOut(t *testing.T) {
 	}
 	if _, e := c.Restrict(f, "z", true); e != api.ErrName {
 		t.Errorf("a name was written into the copse: %d", e)
+	}
+	for range 2 {
+		l := c.Order()
+		if !slices.Equal(l, names) {
+			t.Errorf("an answer of Order shares memory with the copse: %v", l)
+		}
+		l = l[:cap(l)]
+		for i := range l {
+			l[i] = "z"
+		}
 	}
 }
 

@@ -1,6 +1,9 @@
 package copse_test
 
 import (
+	"maps"
+	"math"
+	"slices"
 	"testing"
 
 	"copse/api"
@@ -19,58 +22,76 @@ var names = []string{"a", "b", "c", "d", "e", "f"}
 
 // variableTable is the function that tells the value of a variable.
 func variableTable(variable int) table {
-	t := never
-	for a := range 1 << api.MaxVars {
-		t |= table(a>>variable&1) << a
-	}
-	return t
+	return [api.MaxVars]table{0xaaaaaaaaaaaaaaaa, 0xcccccccccccccccc, 0xf0f0f0f0f0f0f0f0, 0xff00ff00ff00ff00, 0xffff0000ffff0000, 0xffffffff00000000}[variable]
 }
 
 func iteTable(f, g, h table) table { return f&g | ^f&h }
 
+// restrictTable is what f is when a variable has a value; the two halves of the table that differ in it alone become alike.
 func restrictTable(f table, variable int, v bool) table {
-	t := never
-	for a := range 1 << api.MaxVars {
-		b := a &^ (1 << variable)
-		if v {
-			b |= 1 << variable
-		}
-		t |= f >> b & 1 << a
+	shift, mask := 1<<variable, variableTable(variable)
+	if v {
+		return f&mask | f&mask>>shift
 	}
-	return t
+	return f&^mask | f&^mask<<shift
 }
 
 func hangsOn(f table, variable int) bool {
 	return restrictTable(f, variable, true) != restrictTable(f, variable, false)
 }
 
-// addNodes puts the nodes of f into the set as the document words them: what comes out when the first so many variables are given any values, one of each two opposites, without the constants.
-func addNodes(set map[table]bool, f table) {
-	parts := []table{f}
-	for variable := 0; ; variable++ {
-		for _, p := range parts {
-			if p != never && p != always {
-				set[min(p, ^p)] = true
-			}
-		}
-		if variable == api.MaxVars {
-			return
-		}
-		var next []table
-		for _, p := range parts {
-			next = append(next, restrictTable(p, variable, true), restrictTable(p, variable, false))
-		}
-		parts = next
+// addNodes puts the nodes of some functions, in an order, into the set as the document words them: what comes out when the first so many variables are given any values, one of each two opposites, without the constants.
+func addNodes(set map[table]bool, order []int, fs ...table) {
+	parts := map[table]bool{}
+	put := func(f table) { parts[min(f, ^f)] = true }
+	for _, f := range fs {
+		put(f)
 	}
+	for _, variable := range order {
+		maps.Copy(set, parts)
+		now := parts
+		parts = map[table]bool{}
+		for f := range now {
+			put(restrictTable(f, variable, true))
+			put(restrictTable(f, variable, false))
+		}
+	}
+	delete(set, never)
 }
 
-// countNodes is how many nodes some functions have together.
-func countNodes(fs ...table) int {
+// countNodes is how many nodes some functions have together in an order.
+func countNodes(order []int, fs ...table) int {
 	set := map[table]bool{}
-	for _, f := range fs {
-		addNodes(set, f)
-	}
+	addNodes(set, order, fs...)
 	return len(set)
+}
+
+// moveTo is an order with one variable at another place.
+func moveTo(order []int, variable, to int) []int {
+	others := slices.DeleteFunc(slices.Clone(order), func(v int) bool { return v == variable })
+	return slices.Insert(others, to, variable)
+}
+
+// siftOrder is the order that Sift has to find for some functions.
+func siftOrder(order []int, fs ...table) []int {
+	for variable := range order {
+		fewest := math.MaxInt
+		now := order
+		for to := range now {
+			if moved := moveTo(now, variable, to); countNodes(moved, fs...) < fewest {
+				fewest, order = countNodes(moved, fs...), moved
+			}
+		}
+	}
+	return order
+}
+
+func namesOf(order []int) []string {
+	var l []string
+	for _, variable := range order {
+		l = append(l, names[variable])
+	}
+	return l
 }
 
 // start makes a copse with the first n of the names.
@@ -128,4 +149,28 @@ func read(t *testing.T, c *copse.Copse, f int, n int) table {
 		}
 	}
 	return r
+}
+
+// pairs is: a and b, or c and d, or e and f.
+func pairs(t *testing.T, c *copse.Copse, v []int) int {
+	t.Helper()
+	f := c.Const(false)
+	for i := 0; i < len(v); i += 2 {
+		f = ite(t, c, f, c.Const(true), and(t, c, v[i], v[i+1]))
+	}
+	return f
+}
+
+func move(t *testing.T, c *copse.Copse, name string, to int) {
+	t.Helper()
+	if e := c.Move(name, to); e != api.OK {
+		t.Fatalf("Move(%q, %d): %d", name, to, e)
+	}
+}
+
+func collect(t *testing.T, c *copse.Copse, keep ...int) {
+	t.Helper()
+	if e := c.Collect(keep); e != api.OK {
+		t.Fatalf("Collect(%v): %d", keep, e)
+	}
 }

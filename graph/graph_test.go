@@ -84,16 +84,11 @@ func TestSupportIsInTheOrder(t *testing.T) {
 	}
 }
 
-func TestLevelsRise(t *testing.T) {
+func TestTablesAgree(t *testing.T) {
 	for _, order := range orders {
 		g, vs := variables(order...)
 		every(g, vs)
-		for n, number := range g.numbers {
-			f := Ref(2 * number)
-			if g.level(f) >= g.level(n.then) || g.level(f) >= g.level(n.otherwise) || n.then != n.then.plain() || n.then == n.otherwise {
-				t.Errorf("order %v: no node should be %v", order, n)
-			}
-		}
+		check(t, g)
 	}
 }
 
