@@ -8,6 +8,7 @@ import (
 
 	"copse/api"
 	"copse/graph"
+	"copse/script"
 )
 
 // Copse keeps functions.
@@ -33,7 +34,7 @@ func New(cap int) (*Copse, api.Errno) {
 // Var makes a variable (P4).
 func (c *Copse) Var(name string) (int, api.Errno) {
 	switch {
-	case !isName(name) || slices.Contains(c.names, name):
+	case !script.IsName(name) || slices.Contains(c.names, name):
 		return 0, api.ErrName
 	case len(c.names) == api.MaxVars:
 		return 0, api.ErrMany
@@ -66,28 +67,22 @@ func (c *Copse) areLive(fs []int) bool {
 	return !slices.ContainsFunc(fs, func(f int) bool { return !c.isLive(f) })
 }
 
-// tell makes an answer live, if there is room for its nodes, which are the only ones that were made since the last call.
+// tell makes an answer live, if there is room for it.
 func (c *Copse) tell(answer graph.Ref) (int, api.Errno) {
-	if c.graph.Size() > c.cap {
-		c.graph.Sweep(maps.Keys(c.live))
-		return 0, api.ErrFull
+	if e := c.keep(answer); e != api.OK {
+		return 0, e
 	}
-	c.live[answer] = struct{}{}
 	return int(answer), api.OK
 }
 
-func isName(text string) bool {
-	if len(text) < 1 || len(text) > api.MaxName || !isLetter(text[0]) {
-		return false
+// keep makes answers live, if there is room for their nodes, which are the only ones that were made since the last call.
+func (c *Copse) keep(answers ...graph.Ref) api.Errno {
+	if c.graph.Size() > c.cap {
+		c.graph.Sweep(maps.Keys(c.live))
+		return api.ErrFull
 	}
-	for _, b := range []byte(text) {
-		if !isLetter(b) && !isDigit(b) {
-			return false
-		}
+	for _, answer := range answers {
+		c.live[answer] = struct{}{}
 	}
-	return true
+	return api.OK
 }
-
-func isLetter(b byte) bool { return 'a' <= b && b <= 'z' }
-
-func isDigit(b byte) bool { return '0' <= b && b <= '9' }

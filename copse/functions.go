@@ -53,7 +53,7 @@ func (c *Copse) Support(f int) ([]string, api.Errno) {
 		return nil, api.ErrHandle
 	}
 	var support []string
-	for _, variable := range c.graph.Support(graph.Ref(f)) {
+	for _, variable := range c.graph.Support(refs([]int{f})) {
 		support = append(support, c.names[variable])
 	}
 	return support, api.OK

@@ -17,6 +17,15 @@ func (s *steps) below(n int) int {
 	return int(uint64(*s) >> 33 % uint64(n))
 }
 
+func (s *steps) shuffled(order []int) []int {
+	l := slices.Clone(order)
+	for i := range l {
+		j := s.below(i + 1)
+		l[i], l[j] = l[j], l[i]
+	}
+	return l
+}
+
 // A call is one that changes a copse.
 type call struct {
 	kind    string
@@ -25,26 +34,37 @@ type call struct {
 	v       bool
 	to      int
 	keep    []int
-	answer  int
+	format  int
+	bytes   string
+	answers []int
 }
 
-func (k call) on(c *copse.Copse) (int, api.Errno) {
+// on tells the handles that come out.
+func (k call) on(c *copse.Copse) ([]int, api.Errno) {
+	one := func(x int, e api.Errno) ([]int, api.Errno) {
+		if e != api.OK && x == 0 {
+			return nil, e
+		}
+		return []int{x}, e
+	}
 	switch k.kind {
 	case "Var":
-		return c.Var(k.name)
+		return one(c.Var(k.name))
 	case "Not":
-		return c.Not(k.f)
+		return one(c.Not(k.f))
 	case "Restrict":
-		return c.Restrict(k.f, k.name, k.v)
+		return one(c.Restrict(k.f, k.name, k.v))
 	case "Move":
-		return 0, c.Move(k.name, k.to)
+		return nil, c.Move(k.name, k.to)
 	case "Sift":
 		c.Sift()
-		return 0, api.OK
+		return nil, api.OK
 	case "Collect":
-		return 0, c.Collect(k.keep)
+		return nil, c.Collect(k.keep)
+	case "Import":
+		return c.Import(k.format, k.bytes)
 	}
-	return c.Ite(k.f, k.g, k.h)
+	return one(c.Ite(k.f, k.g, k.h))
 }
 
 // model is what a copse has to be: the functions of its live handles, written out.
@@ -93,33 +113,40 @@ func (m *model) learn(t *testing.T, handle int, f table) {
 }
 
 // attempt makes a call that must be refused just if the copse would have more than cap nodes then.
-func (m *model) attempt(t *testing.T, k call, nodes int) (int, api.Errno) {
+func (m *model) attempt(t *testing.T, k call, nodes int) ([]int, api.Errno) {
 	t.Helper()
 	want := api.OK
 	if nodes > m.cap {
 		want = api.ErrFull
 	}
-	answer, e := k.on(m.c)
-	if e != want || e != api.OK && answer != 0 {
-		t.Fatalf("%v: %d nodes, cap %d: %d, %d", k, nodes, m.cap, answer, e)
+	answers, e := k.on(m.c)
+	if e != want || e != api.OK && len(answers) != 0 {
+		t.Fatalf("%v: %d nodes, cap %d: %v, %d", k, nodes, m.cap, answers, e)
 	}
 	if e == api.OK {
-		k.answer = answer
+		k.answers = slices.Clone(answers)
 		m.taken = append(m.taken, k)
 	} else {
 		m.refused[k.kind]++
 	}
-	return answer, e
+	return answers, e
 }
 
-// do makes a call that tells a handle, which should stand for a function in an order.
-func (m *model) do(t *testing.T, k call, order []int, want table) {
+// do makes a call that tells handles, which should stand for functions in an order.
+func (m *model) do(t *testing.T, k call, order []int, want ...table) {
 	t.Helper()
 	together := maps.Clone(m.nodes)
-	addNodes(together, order, want)
-	if handle, e := m.attempt(t, k, len(together)); e == api.OK {
-		m.order = order
-		m.learn(t, handle, want)
+	addNodes(together, order, want...)
+	answers, e := m.attempt(t, k, len(together))
+	if e != api.OK {
+		return
+	}
+	if len(answers) != len(want) {
+		t.Fatalf("%v: %v, want %d handles", k, answers, len(want))
+	}
+	m.order = order
+	for i, handle := range answers {
+		m.learn(t, handle, want[i])
 	}
 }
 
@@ -185,6 +212,18 @@ func (m *model) orderStep(t *testing.T, s *steps) {
 	m.reorder(t, call{kind: "Move", name: names[variable], to: to}, moveTo(m.order, variable, to))
 }
 
+// importStep reads functions that may be new, as they are in any order.
+func (m *model) importStep(t *testing.T, s *steps) {
+	t.Helper()
+	var fs []table
+	for range 1 + s.below(3) {
+		f := iteTable(m.tables[m.any(s)], m.tables[m.any(s)], m.tables[m.any(s)])
+		fs = append(fs, iteTable(m.tables[m.any(s)], f, ^f))
+	}
+	format := s.below(2)
+	m.do(t, call{kind: "Import", format: format, bytes: bytesOf(format, s.shuffled(m.order), fs...)}, m.order, fs...)
+}
+
 // collectStep keeps some of the live handles, few or many, some of them perhaps twice.
 func (m *model) collectStep(t *testing.T, s *steps) {
 	t.Helper()
@@ -209,12 +248,14 @@ func (m *model) mixedStep(t *testing.T, s *steps) {
 		m.orderStep(t, s)
 	case 4:
 		m.collectStep(t, s)
+	case 5, 6:
+		m.importStep(t, s)
 	default:
 		m.step(t, s)
 	}
 }
 
-// look holds what P6 and P7 tell of one handle, of a few together, and of all, against the model.
+// look holds what P6, P7 and P9 tell of one handle, of a few together, and of all, against the model.
 func (m *model) look(t *testing.T, s *steps) {
 	t.Helper()
 	f := m.any(s)
@@ -239,7 +280,17 @@ func (m *model) look(t *testing.T, s *steps) {
 	if got, e := m.c.Nodes(fs); got != countNodes(m.order, tables...) || e != api.OK {
 		t.Fatalf("Nodes of %x: %d, %d, want %d", tables, got, e, countNodes(m.order, tables...))
 	}
+	m.lookAtBytes(t, append(fs, f), append(tables, m.tables[f]))
 	m.lookAtAll(t)
+}
+
+func (m *model) lookAtBytes(t *testing.T, fs []int, tables []table) {
+	t.Helper()
+	for format := range 2 {
+		if got, e := m.c.Export(format, fs); got != bytesOf(format, m.order, tables...) || e != api.OK {
+			t.Fatalf("Export(%d, ..) of %x, order %v: %q, %d, want %q", format, tables, m.order, got, e, bytesOf(format, m.order, tables...))
+		}
+	}
 }
 
 func (m *model) lookAtAll(t *testing.T) {
@@ -265,7 +316,7 @@ func (m *model) readAll(t *testing.T) {
 	}
 }
 
-// TestModel: P3 to P8: many calls, in copses of all kinds of caps, held against functions written out.
+// TestModel: P3 to P10: many calls, in copses of all kinds of caps, held against functions written out.
 func TestModel(t *testing.T) {
 	for _, cap := range []int{1, 2, 3, 4, 5, 6, 7, 8, 10, 13, 20, 35, 60, 100, 150, 299, 300} {
 		for seed := range 6 {

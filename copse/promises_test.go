@@ -12,7 +12,7 @@ import (
 
 var oddNumbers = []int{math.MinInt, math.MinInt + 1, -1000, -2, -1, 0, 1, 2, 3, 5, 63, 64, 65, 299, 300, 301, 600, 1000, math.MaxInt32, math.MaxInt - 1, math.MaxInt}
 
-var oddTexts = []string{"", " ", "a", "aa", "A", "0", "0a", "a0", "\x00", "a\x00", "a\n", "\xff", "ä", "aä", "a-b", "abcdefgh", "abcdefghi", strings.Repeat("a", 100000), "copse\n", "COPS"}
+var oddTexts = []string{"", " ", "a", "aa", "A", "0", "0a", "a0", "\x00", "a\x00", "a\n", "\xff", "ä", "aä", "a-b", "abcdefgh", "abcdefghi", strings.Repeat("a", 100000), "copse\n", "COPS", "copse\nvars 0\nnodes 0\nroots 1\n-0\nend\n", "copse\nvars 1\na\nnodes 1\n0 0 -0\nroots 1\n1\nend\n", "copse\nvars -1\nnodes -1\nroots -1\n", "copse\nvars 1\na\nnodes 1\n-1 -1 -1\n", "copse\nvars 6\n", "COPS\xff", "COPS\x00\xff\xff\x00\xff\xff\xff\xff", sealed("COPS\x00\x00\x00\x01\x00\x01"), sealed("COPS\x00\x00\x00\x01\xff\xff")}
 
 // TestP1NoPanic: every call ends, at all numbers, texts and lists.
 func TestP1NoPanic(t *testing.T) {
@@ -25,6 +25,8 @@ func TestP1NoPanic(t *testing.T) {
 			c.Nodes([]int{x})
 			c.Nodes([]int{0, x, x, 1})
 			c.Export(x, []int{x})
+			c.Export(0, []int{x})
+			c.Export(1, []int{0, x, 1, x})
 			c.Collect([]int{0, 1, x})
 			for _, y := range oddNumbers {
 				c.Eval(x, y)
@@ -41,10 +43,13 @@ func TestP1NoPanic(t *testing.T) {
 		}
 		for _, s := range oddTexts {
 			c.Var(s)
+			c.Import(0, s)
+			c.Import(1, s)
 		}
 		c.Nodes(nil)
 		c.Collect(nil)
 		c.Export(0, nil)
+		c.Export(1, make([]int, 100000))
 		c.Sift()
 		c.Order()
 		c.Live()
@@ -74,6 +79,31 @@ func TestP1FirstError(t *testing.T) {
 	}
 	if e := full.Move("g", -1); e != api.ErrName {
 		t.Errorf("Move: no name, no place: %d", e)
+	}
+	if s, e := full.Export(2, []int{-1}); s != "" || e != api.ErrArg {
+		t.Errorf("Export: no format, no handle: %q, %d", s, e)
+	}
+	if s, e := full.Export(0, slices.Repeat([]int{-1}, 17)); s != "" || e != api.ErrArg {
+		t.Errorf("Export: too many, no handles: %q, %d", s, e)
+	}
+	unknown := paper{[]string{"g", "a"}, []nodeLine{{1, reference{}, reference{0, true}}, {0, reference{1, false}, reference{0, true}}}, []reference{{2, false}}}
+	bad := unknown
+	bad.roots = []reference{{1, false}}
+	for format := range 2 {
+		for _, k := range []struct {
+			what   string
+			format int
+			bytes  string
+			want   api.Errno
+		}{
+			{"no format, no form", format + 2, bad.write(format), api.ErrArg},
+			{"no form, no name, full", format, bad.write(format), api.ErrForm},
+			{"no name, full", format, unknown.write(format), api.ErrName},
+		} {
+			if l, e := full.Import(k.format, k.bytes); len(l) != 0 || e != k.want {
+				t.Errorf("Import: %s: %v, %d, want %d", k.what, l, e, k.want)
+			}
+		}
 	}
 }
 
@@ -105,6 +135,21 @@ func refusals(t *testing.T, c *copse.Copse, v []int, f int) {
 	if l, e := c.Support(-1); len(l) != 0 || e != api.ErrHandle {
 		t.Fatalf("Support of no handle: %v, %d", l, e)
 	}
+	if s, e := c.Export(0, []int{f, -1}); s != "" || e != api.ErrHandle {
+		t.Fatalf("Export of no handle: %q, %d", s, e)
+	}
+	for format := range 2 {
+		either := bytesOf(format, []int{1, 0}, variableTable(0)|variableTable(1))
+		if l, e := c.Import(format, either); len(l) != 0 || e != api.ErrFull {
+			t.Fatalf("Import into a full copse: %v, %d", l, e)
+		}
+		if l, e := c.Import(1-format, either); len(l) != 0 || e != api.ErrForm {
+			t.Fatalf("Import in the wrong format: %v, %d", l, e)
+		}
+		if l, e := c.Import(format, bytesOf(format, []int{2}, variableTable(2))); len(l) != 0 || e != api.ErrName {
+			t.Fatalf("Import of a variable that there is not: %v, %d", l, e)
+		}
+	}
 }
 
 // TestP1NothingChanged: with an error nothing is changed.
@@ -135,13 +180,13 @@ func TestP1NoTrace(t *testing.T) {
 		for range 600 {
 			m.mixedStep(t, &s)
 		}
-		if m.refused["Ite"] == 0 || cap >= 10 && m.refused["Move"] == 0 {
+		if m.refused["Ite"] == 0 || m.refused["Import"] == 0 || cap >= 10 && m.refused["Move"] == 0 {
 			t.Fatalf("cap %d: too little was refused: %v", cap, m.refused)
 		}
 		again, _ := start(t, cap, 0)
 		for i, k := range m.taken {
-			if x, e := k.on(again); x != k.answer || e != api.OK {
-				t.Fatalf("cap %d: call %d of those that were taken: %d, %d, want %d", cap, i, x, e, k.answer)
+			if l, e := k.on(again); !slices.Equal(l, k.answers) || e != api.OK {
+				t.Fatalf("cap %d: call %d of those that were taken: %v, %d, want %v", cap, i, l, e, k.answers)
 			}
 		}
 	}
@@ -185,6 +230,10 @@ func TestP2Apart(t *testing.T) {
 	move(t, d, "a", 2)
 	d.Sift()
 	collect(t, d)
+	if l := imported(t, d, 0, export(t, c, 0, f)); len(l) != 1 || d.Live() != 2 {
+		t.Errorf("a function went over: %v, %d live nodes", l, d.Live())
+	}
+	d.Sift()
 	if l, e := c.Support(f); !slices.Equal(l, []string{"a", "b"}) || e != api.OK {
 		t.Errorf("a function of one copse, after calls on another: %v, %d", l, e)
 	}
@@ -204,6 +253,12 @@ func TestP2ListIn(t *testing.T) {
 	}
 	if n, e := c.Nodes(room[:5]); n != 0 || e != api.ErrHandle {
 		t.Errorf("Nodes with a number below 0: %d, %d", n, e)
+	}
+	if s, e := c.Export(0, room[:4]); s != bytesOf(0, []int{0, 1, 2}, variableTable(0)&variableTable(1), variableTable(0), variableTable(0), always) || e != api.OK {
+		t.Errorf("Export: %q, %d", s, e)
+	}
+	if s, e := c.Export(1, room[:5]); s != "" || e != api.ErrHandle {
+		t.Errorf("Export with a number below 0: %q, %d", s, e)
 	}
 	if e := c.Collect(room[:5]); e != api.ErrHandle {
 		t.Errorf("Collect with a number below 0: %d", e)
@@ -245,6 +300,17 @@ func TestP2ListOut(t *testing.T) {
 	}
 	if _, e := c.Restrict(f, "z", true); e != api.ErrName {
 		t.Errorf("a name was written into the copse: %d", e)
+	}
+	bytes := export(t, c, 0, f, v[0], v[1], v[2], f)
+	for range 2 {
+		l := imported(t, c, 0, bytes)
+		if !slices.Equal(l, []int{f, v[0], v[1], v[2], f}) {
+			t.Errorf("an answer of Import shares memory with the copse: %v", l)
+		}
+		l = l[:cap(l)]
+		for i := range l {
+			l[i] = -1
+		}
 	}
 	for range 2 {
 		l := c.Order()

@@ -1,6 +1,9 @@
 package graph
 
-import "slices"
+import (
+	"iter"
+	"slices"
+)
 
 // Ite is what tells as yes where f is true, and as no where it is false. It makes no nodes but those of its answer.
 func (g *Graph) Ite(f, yes, no Ref) Ref {
@@ -48,16 +51,36 @@ func (g *Graph) restrict(f Ref, level int, value bool) Ref {
 // Eval is what f tells when variable i has the value of the assignment's bit i.
 func (g *Graph) Eval(f Ref, assignment int) bool {
 	for !f.constant() {
-		value := assignment >> g.nodes[f.number()].variable & 1
+		value := assignment >> g.nodes[f.Number()].variable & 1
 		f = g.branch(f, g.level(f), value == 1)
 	}
 	return f == True
 }
 
-// Support tells the variables on which f hangs, in the order.
-func (g *Graph) Support(f Ref) []int {
+// Copy is what f is in another graph, whose variable i is variables[i] here. It makes no nodes here but those of its answer; the other graph may get some on the way.
+func (g *Graph) Copy(other *Graph, f Ref, variables []int) Ref {
+	return g.copyFrom(0, other, f, variables)
+}
+
+// copyFrom copies what hangs on no variable ahead of the level.
+func (g *Graph) copyFrom(level int, other *Graph, f Ref, variables []int) Ref {
+	if f.constant() {
+		return f
+	}
+	there := slices.Index(variables, g.order[level])
+	if there < 0 {
+		return g.copyFrom(level+1, other, f, variables)
+	}
+	part := func(value bool) Ref {
+		return g.copyFrom(level+1, other, other.Restrict(f, there, value), variables)
+	}
+	return g.join(g.order[level], part(true), part(false))
+}
+
+// Support tells the variables on which some of these functions hang, in the order.
+func (g *Graph) Support(fs iter.Seq[Ref]) []int {
 	asked := make([]bool, len(g.order))
-	for number, reached := range g.reach(slices.Values([]Ref{f})) {
+	for number, reached := range g.reach(fs) {
 		if reached {
 			asked[g.nodes[number].variable] = true
 		}

@@ -80,11 +80,11 @@ func (g *Graph) reach(fs iter.Seq[Ref]) []bool {
 }
 
 func (g *Graph) mark(f Ref, reached []bool) {
-	if f.constant() || reached[f.number()] {
+	if f.constant() || reached[f.Number()] {
 		return
 	}
-	reached[f.number()] = true
-	n := g.nodes[f.number()]
+	reached[f.Number()] = true
+	n := g.nodes[f.Number()]
 	g.mark(n.then, reached)
 	g.mark(n.otherwise, reached)
 }
@@ -94,12 +94,12 @@ func (g *Graph) join(variable int, then, otherwise Ref) Ref {
 	if then == otherwise {
 		return then
 	}
-	n := node{variable, then.plain(), otherwise.turnedLike(then)}
+	n := node{variable, then.Plain(), otherwise.TurnedLike(then)}
 	number, found := g.numbers[n]
 	if !found {
 		number = g.add(n)
 	}
-	return Ref(2 * number).turnedLike(then)
+	return Ref(2 * number).TurnedLike(then)
 }
 
 func (g *Graph) add(n node) int {
@@ -120,7 +120,7 @@ func (g *Graph) level(f Ref) int {
 	if f.constant() {
 		return len(g.order)
 	}
-	return slices.Index(g.order, g.nodes[f.number()].variable)
+	return slices.Index(g.order, g.nodes[f.Number()].variable)
 }
 
 // branch is what f is when the variable of this level has a value; f hangs on none ahead of it.
@@ -128,9 +128,9 @@ func (g *Graph) branch(f Ref, level int, value bool) Ref {
 	if g.level(f) != level {
 		return f
 	}
-	n := g.nodes[f.number()]
+	n := g.nodes[f.Number()]
 	if value {
-		return n.then.turnedLike(f)
+		return n.then.TurnedLike(f)
 	}
-	return n.otherwise.turnedLike(f)
+	return n.otherwise.TurnedLike(f)
 }

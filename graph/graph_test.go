@@ -34,6 +34,8 @@ func every(g *Graph, vs []Ref) []Ref {
 	return fs
 }
 
+func support(g *Graph, fs ...Ref) []int { return g.Support(slices.Values(fs)) }
+
 var orders = [][]int{{0, 1, 2}, {0, 2, 1}, {1, 0, 2}, {1, 2, 0}, {2, 0, 1}, {2, 1, 0}}
 
 func TestIteInEachOrder(t *testing.T) {
@@ -67,8 +69,8 @@ func TestRestrictInEachOrder(t *testing.T) {
 				if g.Ite(vs[v], high, low) != f {
 					t.Fatalf("order %v: Restrict of %d by %d", order, f, v)
 				}
-				if hangs := slices.Contains(g.Support(f), v); hangs != (low != high) {
-					t.Errorf("order %v: Support of %d: %v", order, f, g.Support(f))
+				if hangs := slices.Contains(support(g, f), v); hangs != (low != high) {
+					t.Errorf("order %v: Support of %d: %v", order, f, support(g, f))
 				}
 			}
 		}
@@ -78,7 +80,7 @@ func TestRestrictInEachOrder(t *testing.T) {
 func TestSupportIsInTheOrder(t *testing.T) {
 	for _, order := range orders {
 		g, vs := variables(order...)
-		if got := g.Support(g.Ite(vs[0], vs[1], vs[2])); !slices.Equal(got, order) {
+		if got := support(g, g.Ite(vs[0], vs[1], vs[2])); !slices.Equal(got, order) {
 			t.Errorf("order %v: %v", order, got)
 		}
 	}
@@ -120,8 +122,8 @@ func TestSweep(t *testing.T) {
 	keep := func() { g.Sweep(slices.Values([]Ref{kept, vs[0], vs[1], vs[2]})) }
 	for range 3 {
 		made := g.Ite(kept, vs[2], False)
-		if made.number() != len(before)+2 {
-			t.Errorf("a number was not given back: %d", made.number())
+		if made.Number() != len(before)+2 {
+			t.Errorf("a number was not given back: %d", made.Number())
 		}
 		keep()
 		if !maps.Equal(g.numbers, before) || len(g.results) != 0 {

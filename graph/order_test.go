@@ -14,7 +14,7 @@ func check(t *testing.T, g *Graph) {
 		if g.nodes[number] != n {
 			t.Fatalf("order %v: the number %d is %v and %v", g.order, number, n, g.nodes[number])
 		}
-		if g.level(f) >= g.level(n.then) || g.level(f) >= g.level(n.otherwise) || n.then != n.then.plain() || n.then == n.otherwise {
+		if g.level(f) >= g.level(n.then) || g.level(f) >= g.level(n.otherwise) || n.then != n.then.Plain() || n.then == n.otherwise {
 			t.Fatalf("order %v: no node should be %v", g.order, n)
 		}
 	}

@@ -12,12 +12,16 @@ const (
 // Not is the opposite.
 func (f Ref) Not() Ref { return f ^ 1 }
 
-func (f Ref) number() int { return int(f >> 1) }
+// Number is that of the node.
+func (f Ref) Number() int { return int(f >> 1) }
 
-func (f Ref) constant() bool { return f.number() == 0 }
+// Plain is what the node tells.
+func (f Ref) Plain() Ref { return f &^ 1 }
 
-// plain is what the node tells.
-func (f Ref) plain() Ref { return f &^ 1 }
+// Turned tells whether f is the opposite of what the node tells.
+func (f Ref) Turned() bool { return f != f.Plain() }
 
-// turnedLike is f, or its opposite if by is turned.
-func (f Ref) turnedLike(by Ref) Ref { return f ^ by&1 }
+// TurnedLike is f, or its opposite if by is turned.
+func (f Ref) TurnedLike(by Ref) Ref { return f ^ by&1 }
+
+func (f Ref) constant() bool { return f.Number() == 0 }
